@@ -1,0 +1,1 @@
+"""Cubewebs: webs that lie in cubes of bits without stretch."""

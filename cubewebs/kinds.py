@@ -1,0 +1,35 @@
+"""Helper of all files: of what kind a thing is, whatever is handed in."""
+
+MOST_BITS = 12
+
+
+def is_whole(thing):
+    """Whether it is a whole number: Python counts truths as numbers, the document does not."""
+    return isinstance(thing, int) and not isinstance(thing, bool)
+
+
+def is_below(thing, many):
+    """Whether it is a whole number from 0 to many less 1: a place, or the number of a tie."""
+    return is_whole(thing) and 0 <= thing < many
+
+
+def all_below(thing, size, many):
+    """Whether it is a tuple of just so many whole numbers, each from 0 to many less 1."""
+    if not isinstance(thing, tuple) or len(thing) != size:
+        return False
+    return all(is_below(part, many) for part in thing)
+
+
+def is_rising(numbers):
+    """Whether each is greater than the one ahead, of things that can be compared."""
+    return all(numbers[k] < numbers[k + 1] for k in range(len(numbers) - 1))
+
+
+def are_bits(thing, size):
+    """Whether it is a tuple of so many tuples of bits, all of as many bits, twelve at most."""
+    if not isinstance(thing, tuple) or len(thing) != size:
+        return False
+    if not all(isinstance(row, tuple) for row in thing):
+        return False
+    width = len(thing[0])
+    return width <= MOST_BITS and all(all_below(row, width, 2) for row in thing)
