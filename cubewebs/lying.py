@@ -1,7 +1,8 @@
 """Stage 5: which webs lie in a cube, and the papers that show it."""
 
+from cubewebs.addresses import addresses_good
 from cubewebs.errors import NoCube
-from cubewebs.kinds import all_below, are_bits
+from cubewebs.kinds import all_below
 from cubewebs.together import break_good, first_break, groups_of, is_odd_ring, odd_ring
 from cubewebs.webs import far_of, far_table, is_joined, web_good
 
@@ -11,7 +12,7 @@ def paper_good(web, thing):
     if not isinstance(thing, tuple) or len(thing) < 2:
         return False
     if thing[0] == "lies":
-        return len(thing) == 2 and are_addresses(web, thing[1])
+        return len(thing) == 2 and addresses_good(web, thing[1])
     if thing[0] == "odd":
         return len(thing) == 2 and is_odd_ring(web, thing[1])
     if thing[0] == "apart":
@@ -36,21 +37,14 @@ def lies(web):
 
 def addresses_of(web):
     """The addresses with as few bits as can be, noughts alone at place 0; else NoCube."""
-    if not web_good(web) or not lies(web):
-        raise NoCube()
+    refuse_no_cube(web)
     return _addresses_by_groups(web)
 
 
-def are_addresses(web, thing):
-    """Whether the thing is addresses of the web."""
-    if not are_bits(thing, web[0]):
-        return False
-    far = far_table(web)
-    return all(_unlike_many(thing[a], thing[b]) == far[a][b] for a in range(web[0]) for b in range(a))
-
-
-def _unlike_many(one, other):
-    return sum(1 for k in range(len(one)) if one[k] != other[k])
+def refuse_no_cube(web):
+    """NoCube where the web lies in no cube: what is no web at all lies in none either."""
+    if not web_good(web) or not lies(web):
+        raise NoCube()
 
 
 def _are_apart(web, thing):

@@ -9,23 +9,23 @@ RING_SIZES = (3, 5, 7)
 
 def together(web, one, other):
     """Whether the ties of the two numbers go together; else Apart, NoTie."""
-    _refuse_apart(web)
-    _refuse_no_tie(web, one)
-    _refuse_no_tie(web, other)
+    refuse_apart(web)
+    refuse_no_tie(web, one)
+    refuse_no_tie(web, other)
     return _go_together(far_table(web), web[1][one], web[1][other])
 
 
 def with_of(web, number):
     """The rising list of the numbers of ties that go with one; else Apart, NoTie."""
-    _refuse_apart(web)
-    _refuse_no_tie(web, number)
+    refuse_apart(web)
+    refuse_no_tie(web, number)
     row = _together_table(web)[number]
     return [other for other in range(len(row)) if row[other]]
 
 
 def groups_of(web):
     """The list of the groups of ties, by their least numbers; else Apart."""
-    _refuse_apart(web)
+    refuse_apart(web)
     table = _together_table(web)
     groups = []
     grouped = {}
@@ -40,7 +40,7 @@ def groups_of(web):
 
 def break_good(web, thing):
     """Whether the thing is a break; else Apart."""
-    _refuse_apart(web)
+    refuse_apart(web)
     if not all_below(thing, 3, len(web[1])):
         return False
     e, f, g = thing
@@ -50,7 +50,7 @@ def break_good(web, thing):
 
 def first_break(web):
     """The first break, None where the ties lead on; else Apart."""
-    _refuse_apart(web)
+    refuse_apart(web)
     table = _together_table(web)
     for e in range(len(table)):
         for f in range(len(table)):
@@ -63,13 +63,13 @@ def first_break(web):
 
 def odd_good(web, thing):
     """Whether the thing is an odd ring; else Apart."""
-    _refuse_apart(web)
+    refuse_apart(web)
     return is_odd_ring(web, thing)
 
 
 def odd_ring(web):
     """Some odd ring, of the least size that there is, None where there is none; else Apart."""
-    _refuse_apart(web)
+    refuse_apart(web)
     far = far_table(web)
     level = [
         (far[top][a], top, a, b)
@@ -87,7 +87,7 @@ def odd_ring(web):
 
 def sides_of(web):
     """A 0 or 1 for each place, unlike at tied ones, None where there is an odd ring; else Apart."""
-    _refuse_apart(web)
+    refuse_apart(web)
     sides = tuple([steps & 1 for steps in far_table(web)[0]])
     if any(sides[a] == sides[b] for a, b in web[1]):
         return None
@@ -104,13 +104,14 @@ def is_odd_ring(web, thing):
     return all(is_tied(web, thing[k - 1], thing[k]) for k in range(len(thing)))
 
 
-def _refuse_apart(web):
-    """What is no web at all is no joined one either."""
+def refuse_apart(web):
+    """Apart where the web is not joined: what is no web at all is no joined one either."""
     if not web_good(web) or not is_joined(web):
         raise Apart()
 
 
-def _refuse_no_tie(web, number):
+def refuse_no_tie(web, number):
+    """NoTie where what is handed in for a tie's number is none."""
     if not is_below(number, len(web[1])):
         raise NoTie()
 

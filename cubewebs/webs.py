@@ -1,7 +1,7 @@
 """Stage 1: webs, how far their places are from one another, and what lies between."""
 
 from cubewebs.errors import NoPlace, NoWeb
-from cubewebs.kinds import all_below, is_below, is_rising, is_whole
+from cubewebs.kinds import all_below, each_once, is_below, is_rising, is_whole
 
 MOST_PLACES = 8
 
@@ -29,14 +29,14 @@ def web_of(many, things):
 
 def near_of(web, place):
     """The rising tuple of the places tied to the place; else NoPlace."""
-    _refuse_no_place(web, place)
+    refuse_no_place(web, place)
     return tuple(_near_table(web)[place])
 
 
 def far_of(web, one, other):
     """How many ties the least way has, None where there is no way; else NoPlace."""
-    _refuse_no_place(web, one)
-    _refuse_no_place(web, other)
+    refuse_no_place(web, one)
+    refuse_no_place(web, other)
     return _far_row(_near_table(web), one)[other]
 
 
@@ -107,7 +107,7 @@ def way_good(web, one, other, thing):
 def renamed(web, names):
     """The web in which each place has the number at its place in names; else NoPlace."""
     many, ties = web
-    if not all_below(names, many, many) or len(set(names)) != many:
+    if not each_once(names, many):
         raise NoPlace()
     return web_of(many, [(names[a], names[b]) for a, b in ties])
 
@@ -115,6 +115,12 @@ def renamed(web, names):
 def is_tied(web, one, other):
     """Whether a tie leads from the one place to the other."""
     return (min(one, other), max(one, other)) in web[1]
+
+
+def refuse_no_place(web, place):
+    """NoPlace where what is handed in for a place is none."""
+    if not is_below(place, web[0]):
+        raise NoPlace()
 
 
 def _many_good(many):
@@ -127,11 +133,6 @@ def _pair_good(many, thing):
 
 def _tie_good(many, thing):
     return all_below(thing, 2, many) and thing[0] < thing[1]
-
-
-def _refuse_no_place(web, place):
-    if not is_below(place, web[0]):
-        raise NoPlace()
 
 
 def _near_table(web):

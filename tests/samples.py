@@ -3,8 +3,9 @@
 Nothing here asks the program: what a test compares with is found in another way.
 """
 
+import signal
 import unittest
-from itertools import combinations, permutations
+from itertools import combinations, permutations, product
 
 
 def deep(thing, times):
@@ -22,6 +23,35 @@ JUNK = [
     (None,), (True,), ("0",), ((),), ([],), ({},), (0, None), (0, "1"), ("0", 1), ([0], [1]),
     (0, True), (True, False), (False, True), (0, 10 ** 39), (-1, 0), (0, -1),
     deep(0, 7), deep(0, 8), deep((), 7), deep([], 7), [0] * 1000, tuple(range(1000)),
+]
+
+
+def junk_but(*things):
+    """What may be handed in, but for these: a truth is not taken for a number."""
+    return [thing for thing in JUNK if repr(thing) not in [repr(right) for right in things]]
+
+
+# What is no lots of bits, whatever else it is; `((),)` is one.
+NO_LOTS = junk_but(((),)) + [
+    (0, 1), ((0,), 1), (0, (1,)), ((0,), [1]), ([0], [1]), [(0,), (1,)], ("0", "1"), {(0,): 0, (1,): 1},
+    ((0,), (0,)), ((), ()), ((1, 0), (0, 1), (1, 0)), ((0,), (0, 1)), ((0, 1), (0,)), ((), (0,)),
+    ((0,), (2,)), ((-1,), (0,)), ((0,), (True,)), ((False,), (1,)), ((None,),), (("0",),), (((0,),),), ((0.0,),),
+    ((0,) * 13,), ((1,) * 12, (0,) * 13), tuple((0,) * 13 + (bit,) for bit in (0, 1)),
+    tuple(product((0, 1), repeat=3)) + ((0, 0, 0),), tuple(product((0, 1), repeat=4))[:9],
+    tuple(product((0, 1), repeat=4)),
+]
+
+# What is no rising tuple of whole numbers from 0 to 2.
+NO_RISING = junk_but((), (0,), (1,)) + [
+    (0, 0), (1, 0), (2, 1), (0, 2, 1), (0, 1, 1), (0, 1, 2, 2), (0, 1, 2, 3), (3,), (2, 3), (-1,), (-1, 2), (-3,),
+    (0, True), (False, 1), (True, 2), (0, 1, None), (0, "1"), ((0, 1),), (0, (1,)), [0, 1], {0: 0, 1: 1}, "02",
+]
+
+# What is no tuple with each of the whole numbers 0, 1 and 2 once.
+NO_ORDER = JUNK + [
+    (0, 1), (2, 1), (0, 1, 2, 3), (0, 0, 1), (0, 1, 1), (2, 2, 2), (1, 2, 3), (0, 1, 3), (-1, 0, 1), (0, 1, -1),
+    (0, 1, 2, 0), [0, 1, 2], "012", {0: 0, 1: 1, 2: 2}, (0, True, 2), (False, 1, 2), (False, True, 2), (0, 1, "2"),
+    (0, 1, None), ((0, 1, 2),), (0, 1, (2,)), ([0], [1], [2]), ({}, [], ()), (0, 1, [2]), (10 ** 39, 0, 1),
 ]
 
 
@@ -263,6 +293,45 @@ def brute_addresses(asked):
     return tuple(rows)
 
 
+def brute_all_addresses(asked, bits):
+    """All addresses of so many bits, rising: place after place each code that is as far as it has to be."""
+    far = brute_far(asked)
+
+    def grown(codes):
+        if len(codes) == asked[0]:
+            yield tuple(tuple(code >> bit & 1 for bit in reversed(range(bits))) for code in codes)
+            return
+        due = far[len(codes)]
+        for code in range(2 ** bits):
+            if all((code ^ old).bit_count() == due[at] for at, old in enumerate(codes)):
+                yield from grown(codes + [code])
+
+    return grown([])
+
+
+def brute_put(lots, order):
+    return tuple(tuple(row[number] for number in order) for row in lots)
+
+
+def brute_turned(lots, numbers):
+    return tuple(tuple(bit ^ (number in numbers) for number, bit in enumerate(row)) for row in lots)
+
+
+def all_rising(many):
+    """All rising tuples of numbers below many, in their order."""
+    return sorted(some for size in range(many + 1) for some in combinations(range(many), size))
+
+
+def brute_renamings(asked, other):
+    """All renamings of the one web to the other, rising, by trying all."""
+    if asked[0] != other[0] or len(asked[1]) != len(other[1]):
+        return
+    ties = set(other[1])
+    for names in permutations(range(asked[0])):
+        if all((min(names[a], names[b]), max(names[a], names[b])) in ties for a, b in asked[1]):
+            yield names
+
+
 def some_names(many):
     """Names to rename webs by: all of few places, some of more."""
     if many <= 3:
@@ -283,6 +352,19 @@ class Case(unittest.TestCase):
         finally:
             if repr(handed) != kept:
                 self.fail(f"{call.__name__} changed {kept} to {handed!r}")
+
+    def soon(self, call, *handed):
+        """What the call tells; it has to come in good time, not by trying all there is."""
+        def late(*_):
+            raise AssertionError(f"{call.__name__}{handed!r} has no answer after ten seconds")
+
+        before = signal.signal(signal.SIGALRM, late)
+        signal.alarm(10)
+        try:
+            return self.ask(call, *handed)
+        finally:
+            signal.alarm(0)
+            signal.signal(signal.SIGALRM, before)
 
     def told(self, due, call, *handed):
         """Just this is told: a truth is no number, a list no tuple."""

@@ -2,8 +2,8 @@
 
 import unittest
 
-from cubewebs import lying, together, webs
-from cubewebs.errors import Apart, CubeError, NoCube, NoPlace, NoTie, NoWeb
+from cubewebs import addresses, drawn, halves, lying, tallied, together, webs
+from cubewebs.errors import Apart, CubeError, NoCube, NoLine, NoPlace, NoTie, NoWeb, TooGreat
 from samples import CUBE, JUNK, Case, full_web, path_web, ring_web, two_sided_web, web
 
 SQUARE = ring_web(4)
@@ -23,10 +23,37 @@ def questions(asked):
         (together.odd_good, asked, (0, 1, 2)), (together.odd_ring, asked), (together.sides_of, asked),
         (lying.paper_good, asked, ("odd", (0, 1, 2))), (lying.paper_of, asked), (lying.lies, asked),
     ]
+    bits = tuple((place & 1, place >> 1 & 1, place >> 2) for place in range(asked[0]))
+    listed += [
+        (addresses.bits_good, asked, bits), (addresses.addresses_good, asked, bits),
+        (addresses.stretch_of, asked, bits, 0, last), (addresses.first_stretch, asked, bits),
+        (addresses.web_by, bits), (addresses.turned_bits, bits, (0, 2)), (addresses.put_bits, bits, (2, 0, 1)),
+        (addresses.lean_bits, bits), (addresses.led_bits, bits, tuple(row[::-1] for row in bits)),
+        (halves.closed_good, asked, (0, last)), (halves.closed_lots, asked), (halves.hull_of, asked, (last,)),
+        (halves.left_by, asked, (0,)), (halves.open_good, asked, (0, 0, 3, 4, 1)), (halves.first_open, asked),
+        (drawn.renaming_good, asked, asked, tuple(reversed(range(asked[0])))), (drawn.first_renaming, asked, asked),
+    ]
+    if asked[0] < 7:
+        listed += [(drawn.least_form, asked), (drawn.own_many, asked)]
     if asked[1]:
-        listed += [(together.together, asked, 0, len(asked[1]) - 1), (together.with_of, asked, len(asked[1]) - 1)]
+        number = len(asked[1]) - 1
+        listed += [(together.together, asked, 0, number), (together.with_of, asked, number),
+                   (halves.halves_of, asked, number)]
     if lying.lies(asked):
-        listed.append((lying.addresses_of, asked))
+        listed += questions_of_a_cube(asked)
+    return listed
+
+
+def questions_of_a_cube(asked):
+    listed = [
+        (lying.addresses_of, asked), (tallied.fewest_bits, asked), (tallied.addresses_many, asked, 8),
+        (tallied.first_addresses, asked, 8), (tallied.from_place, asked, asked[0] - 1),
+        (tallied.weight_table, asked), (drawn.drawn_by, asked, ()),
+    ]
+    if tallied.fewest_bits(asked) < 4:
+        listed.append((tallied.all_addresses, asked))
+    if asked[1]:
+        listed += [(tallied.bit_of, asked, 0), (drawn.drawn_web, asked, 0), (drawn.drawn_names, asked, 0)]
     return listed
 
 
@@ -46,6 +73,12 @@ class AskedTest(Case):
                 self.refused(NoTie, together.with_of, asked, thing)
                 self.refused(Apart, together.groups_of, LOOSE)
                 self.refused(NoCube, lying.addresses_of, LOOSE)
+                self.refused(NoCube, tallied.fewest_bits, LOOSE)
+                self.refused(NoCube, addresses.first_stretch, asked, [thing])
+                self.refused(NoLine, addresses.put_bits, ((0, 1), (1, 1)), [thing])
+                self.refused(NoPlace, halves.hull_of, asked, [thing])
+                self.refused(NoTie, drawn.drawn_by, SQUARE, [thing])
+                self.refused(TooGreat, drawn.least_form, CUBE)
         again = [repr(self.ask(*question)) for asked in ASKED for question in questions(asked)]
         self.assertEqual(first, again)
 
@@ -79,6 +112,23 @@ class AskedTest(Case):
             ring = self.ask(together.odd_ring, made)
             self.told(ring is not None, together.odd_good, made, ring)
             self.told(True, lying.paper_good, made, self.ask(lying.paper_of, made))
+            self.told(True, halves.closed_good, made, self.ask(halves.hull_of, made, (0, asked[0] - 1)[:asked[0]]))
+            found = self.ask(halves.first_open, made)
+            self.told(found is not None, halves.open_good, made, found)
+            names = self.ask(drawn.first_renaming, made, made)
+            self.told(True, drawn.renaming_good, made, made, names)
+            if lying.lies(asked):
+                self.cube_told_again(made)
+
+    def cube_told_again(self, made):
+        rows = self.ask(tallied.first_addresses, made, 9)
+        self.told(True, addresses.addresses_good, made, rows)
+        self.told(made, addresses.web_by, self.ask(addresses.lean_bits, rows))
+        here, there = self.ask(tallied.from_place, made, 0), self.ask(tallied.from_place, made, made[0] - 1)
+        order, turned = self.ask(addresses.led_bits, here, there)
+        self.told(there, addresses.turned_bits, self.ask(addresses.put_bits, here, order), turned)
+        for number in range(self.ask(tallied.fewest_bits, made)):
+            self.told(True, lying.lies, self.ask(drawn.drawn_web, made, number))
 
     def test_lists_handed_in_as_whatever_stay_as_they_are(self):
         inner = [0, 1]
@@ -86,10 +136,19 @@ class AskedTest(Case):
         things = [(0, 1), inner]
         for call, handed in [(webs.web_good, (thing,)), (webs.web_good, ([2, [inner]],)),
                              (webs.way_good, (SQUARE, 0, 1, inner)), (together.odd_good, (SQUARE, [inner])),
-                             (together.break_good, (SQUARE, inner)), (lying.paper_good, (SQUARE, thing))]:
+                             (together.break_good, (SQUARE, inner)), (lying.paper_good, (SQUARE, thing)),
+                             (addresses.bits_good, ((2, ()), inner)), (addresses.bits_good, ((2, ()), (inner, inner))),
+                             (addresses.addresses_good, (SQUARE, [inner])), (halves.closed_good, (SQUARE, inner)),
+                             (halves.open_good, (SQUARE, [0, 0, *inner, 2])),
+                             (drawn.renaming_good, (SQUARE, SQUARE, inner))]:
             self.told(False, call, *handed)
         self.refused(NoWeb, webs.web_of, 3, things)
         self.refused(NoPlace, webs.renamed, (2, ()), inner)
+        self.refused(NoPlace, halves.hull_of, SQUARE, inner)
+        self.refused(NoTie, drawn.drawn_by, SQUARE, inner)
+        self.refused(NoLine, addresses.turned_bits, ((0, 1),), inner)
+        self.refused(NoLine, addresses.put_bits, ((0, 1),), inner)
+        self.refused(NoCube, addresses.web_by, (inner,))
         self.assertEqual((inner, things), ([0, 1], [(0, 1), [0, 1]]))
 
     def test_answers_are_of_their_kinds(self):
@@ -98,8 +157,15 @@ class AskedTest(Case):
             "least_way": tuple, "ways_many": int, "between": tuple, "way_good": bool, "renamed": tuple,
             "together": bool, "with_of": list, "groups_of": list, "break_good": bool, "odd_good": bool,
             "paper_good": bool, "paper_of": tuple, "lies": bool, "addresses_of": tuple,
+            "bits_good": bool, "addresses_good": bool, "stretch_of": int, "web_by": tuple, "turned_bits": tuple,
+            "put_bits": tuple, "lean_bits": tuple, "halves_of": tuple, "closed_good": bool, "closed_lots": list,
+            "hull_of": tuple, "open_good": bool, "fewest_bits": int, "bit_of": int, "addresses_many": int,
+            "first_addresses": tuple, "all_addresses": list, "from_place": tuple, "weight_table": list,
+            "drawn_web": tuple, "drawn_names": tuple, "drawn_by": tuple, "renaming_good": bool,
+            "first_renaming": tuple, "least_form": tuple, "own_many": int,
         }
-        nones = {"first_break": tuple, "odd_ring": tuple, "sides_of": tuple}
+        nones = {"first_break": tuple, "odd_ring": tuple, "sides_of": tuple, "first_stretch": tuple,
+                 "led_bits": tuple, "left_by": tuple, "first_open": tuple}
         for asked in ASKED:
             for call, *handed in questions(asked):
                 got = self.ask(call, *handed)
@@ -110,7 +176,10 @@ class AskedTest(Case):
 
     def test_each_refusal_is_caught_as_a_cube_error_and_a_value_error(self):
         for call, handed in [(webs.web_of, (0, [])), (webs.near_of, (SQUARE, 4)), (together.groups_of, (LOOSE,)),
-                             (together.with_of, (SQUARE, 4)), (lying.addresses_of, (LOOSE,))]:
+                             (together.with_of, (SQUARE, 4)), (lying.addresses_of, (LOOSE,)),
+                             (addresses.web_by, ((),)), (addresses.put_bits, (((0,),), ())),
+                             (halves.left_by, (SQUARE, (4,))), (tallied.all_addresses, (path_web(8),)),
+                             (drawn.drawn_web, (SQUARE, 2)), (drawn.own_many, (path_web(7),))]:
             with self.assertRaises(CubeError):
                 call(*handed)
             with self.assertRaises(ValueError):
@@ -129,6 +198,15 @@ class AskedTest(Case):
         self.refused(NoPlace, webs.way_good, SQUARE, 4, 0, (4, 0))
         self.refused(NoPlace, webs.far_of, LOOSE, 5, 6)
         self.refused(NoPlace, webs.least_way, LOOSE, 6, 6)
+        # What the other files refuse: the web ahead of what is asked of it, bits ahead of places.
+        self.refused(NoCube, addresses.stretch_of, SQUARE, ((0,),), 4, None)
+        self.refused(NoCube, addresses.put_bits, ((0,), (0,)), (1,))
+        self.refused(Apart, halves.halves_of, LOOSE, 99)
+        self.refused(Apart, halves.left_by, LOOSE, (6,))
+        self.refused(NoCube, tallied.bit_of, LOOSE, 99)
+        self.refused(NoCube, tallied.from_place, LOOSE, 6)
+        self.refused(NoCube, tallied.first_addresses, LOOSE, 13)
+        self.refused(NoCube, drawn.drawn_by, LOOSE, None)
 
 
 if __name__ == "__main__":
