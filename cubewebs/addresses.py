@@ -34,7 +34,7 @@ def first_stretch(web, bits):
 
 def web_by(lots):
     """The web with a place for each tuple, tied where just one bit is unlike; else NoCube."""
-    _refuse_no_lots(lots)
+    refuse_no_lots(lots)
     many = len(lots)
     pairs = [(a, b) for a in range(many) for b in range(a + 1, many)]
     return (many, tuple([(a, b) for a, b in pairs if _unlike_many(lots[a], lots[b]) == 1]))
@@ -42,7 +42,7 @@ def web_by(lots):
 
 def turned_bits(lots, numbers):
     """The lots in which each bit of these numbers is turned; else NoCube, NoLine."""
-    _refuse_no_lots(lots)
+    refuse_no_lots(lots)
     if not rising_below(numbers, len(lots[0])):
         raise NoLine()
     return tuple([_turned_row(row, numbers) for row in lots])
@@ -50,7 +50,7 @@ def turned_bits(lots, numbers):
 
 def put_bits(lots, order):
     """The lots with, at each place, the bit whose number stands there; else NoCube, NoLine."""
-    _refuse_no_lots(lots)
+    refuse_no_lots(lots)
     if not each_once(order, len(lots[0])):
         raise NoLine()
     return _picked(lots, order)
@@ -58,15 +58,15 @@ def put_bits(lots, order):
 
 def lean_bits(lots):
     """The lots without the bits that are alike in all of them; else NoCube."""
-    _refuse_no_lots(lots)
+    refuse_no_lots(lots)
     columns = columns_of(lots)
     return _picked(lots, [number for number in range(len(columns)) if len(set(columns[number])) > 1])
 
 
 def led_bits(one, other):
     """The first (order, turned) that leads the one lots to the other, None without; else NoCube."""
-    _refuse_no_lots(one)
-    _refuse_no_lots(other)
+    refuse_no_lots(one)
+    refuse_no_lots(other)
     if len(one) != len(other) or len(one[0]) != len(other[0]):
         return None
     here = columns_of(one)
@@ -89,13 +89,14 @@ def columns_of(lots):
     return [tuple([row[number] for row in lots]) for number in range(len(lots[0]))]
 
 
-def _refuse_no_bits(web, bits):
-    if not bits_good(web, bits):
+def refuse_no_lots(lots):
+    """NoCube where what is handed in is no lots of bits."""
+    if not are_lots(lots):
         raise NoCube()
 
 
-def _refuse_no_lots(lots):
-    if not are_lots(lots):
+def _refuse_no_bits(web, bits):
+    if not bits_good(web, bits):
         raise NoCube()
 
 

@@ -1,11 +1,9 @@
 """Stage 9: webs with groups of ties drawn together, and which webs are alike."""
 
-from itertools import permutations
-
-from cubewebs.errors import NoTie, TooGreat
-from cubewebs.kinds import each_once, is_below, rising_below
+from cubewebs.errors import NoTie
+from cubewebs.kinds import each_once, is_below, refuse_too_great, rising_below
 from cubewebs.lying import addresses_of
-from cubewebs.webs import far_table, renamed, web_of
+from cubewebs.webs import far_table, near_table, renamed, web_of
 
 MOST_FORMED = 6
 
@@ -48,12 +46,14 @@ def first_renaming(web, other):
 
 def least_form(web):
     """The least web to which the web can be renamed; else TooGreat."""
-    return min(_all_renamed(web))
+    order, _ = _least_orders(web)[0]
+    return renamed(web, tuple([order.index(place) for place in range(web[0])]))
 
 
 def own_many(web):
     """How many renamings of the web to itself there are; else TooGreat."""
-    return _all_renamed(web).count(web)
+    # There are as many as there are orders of its places that make one and the same web.
+    return sum(ways for _, ways in _least_orders(web))
 
 
 def _names_by_rows(rows, some):
@@ -92,8 +92,47 @@ def _fits(row, other, names):
     return _profile(row) == _profile(other) and all(row[k] == other[names[k]] for k in range(len(names)))
 
 
-def _all_renamed(web):
-    """What comes of all renamings of a web of few places."""
-    if web[0] > MOST_FORMED:
-        raise TooGreat(web[0], MOST_FORMED)
-    return [renamed(web, names) for names in permutations(range(web[0]))]
+def _least_orders(web):
+    """Orders of the places that make the least web, each with how many it stands for."""
+    refuse_too_great(web[0], MOST_FORMED)
+    near = near_table(web)
+    twins = _least_twins(near)
+    # Each order as far as it goes, and behind it lots of places that may stand in any order yet.
+    begun = [((), [list(range(web[0]))], 1)]
+    for _ in range(web[0]):
+        longer = []
+        for order, lots, ways in begun:
+            for place, alike in _unlike_ones(twins, lots[0]):
+                tied, parted = _parted(near[place], lots, place)
+                longer.append((tied, (*order, place), parted, ways * alike))
+        # The web is the less, the more of those that stand soonest behind its place are tied to it.
+        most = max([tied for tied, _, _, _ in longer])
+        begun = [(order, lots, ways) for tied, order, lots, ways in longer if tied == most]
+    return [(order, ways) for order, _, ways in begun]
+
+
+def _least_twins(near):
+    """By places, the least one tied to the same others: these two may change places everywhere."""
+    return [min([b for b in range(a + 1) if _are_twins(near, a, b)]) for a in range(len(near))]
+
+
+def _are_twins(near, a, b):
+    return [place for place in near[a] if place != b] == [place for place in near[b] if place != a]
+
+
+def _unlike_ones(twins, lot):
+    """The first of each of the lot's twins, with how many there are."""
+    leasts = [twins[place] for place in lot]
+    return [(place, leasts.count(leasts[at])) for at, place in enumerate(lot) if leasts.index(leasts[at]) == at]
+
+
+def _parted(near, lots, place):
+    """How many of each lot are tied to the place, and the lots without it, these ahead of the others."""
+    tied = []
+    parted = []
+    for lot in lots:
+        ahead = [other for other in lot if other in near]
+        behind = [other for other in lot if other not in near and other != place]
+        tied.append(len(ahead))
+        parted = parted + [part for part in (ahead, behind) if part]
+    return (tied, parted)

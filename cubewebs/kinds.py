@@ -1,4 +1,6 @@
-"""Helper of all files: of what kind a thing is, whatever is handed in."""
+"""Helper of all files: of what kind a thing is, whatever is handed in, and what there would be too many of."""
+
+from cubewebs.errors import TooGreat
 
 MOST_BITS = 12
 MOST_LOTS = 8
@@ -51,3 +53,9 @@ def are_lots(thing):
     if not isinstance(thing, tuple) or not 1 <= len(thing) <= MOST_LOTS:
         return False
     return are_bits(thing, len(thing)) and len(set(thing)) == len(thing)
+
+
+def refuse_too_great(many, most):
+    """TooGreat where there would be more than most."""
+    if many > most:
+        raise TooGreat(many, most)

@@ -4,8 +4,7 @@ from itertools import combinations, permutations
 from math import perm
 
 from cubewebs.addresses import columns_of, put_bits, turned_bits
-from cubewebs.errors import TooGreat
-from cubewebs.kinds import MOST_BITS
+from cubewebs.kinds import MOST_BITS, refuse_too_great
 from cubewebs.lying import addresses_of, refuse_no_cube
 from cubewebs.together import groups_of, refuse_no_tie
 from cubewebs.webs import refuse_no_place
@@ -30,7 +29,7 @@ def bit_of(web, number):
 def addresses_many(web, bits):
     """How many addresses of so many bits the web has; else NoCube, TooGreat."""
     fewest = fewest_bits(web)
-    _refuse_too_great(bits, MOST_BITS)
+    refuse_too_great(bits, MOST_BITS)
     if bits < fewest:
         return 0
     # Each group has one of the bits, another than other groups; the bits left over are alike in
@@ -41,7 +40,7 @@ def addresses_many(web, bits):
 def first_addresses(web, bits):
     """The first addresses of so many bits, None where there are none; else NoCube, TooGreat."""
     rows = addresses_of(web)
-    _refuse_too_great(bits, MOST_BITS)
+    refuse_too_great(bits, MOST_BITS)
     spare = bits - len(rows[0])
     if spare < 0:
         return None
@@ -56,7 +55,7 @@ def all_addresses(web):
     """The rising list of all addresses with as few bits as can be; else NoCube, TooGreat."""
     rows = addresses_of(web)
     fewest = len(rows[0])
-    _refuse_too_great(fewest, MOST_LISTED)
+    refuse_too_great(fewest, MOST_LISTED)
     turns = [turn for size in range(fewest + 1) for turn in combinations(range(fewest), size)]
     put = [put_bits(rows, order) for order in permutations(range(fewest))]
     return sorted([turned_bits(told, turn) for told in put for turn in turns])
@@ -73,8 +72,3 @@ def from_place(web, place):
 def weight_table(web):
     """By places, how many bits 1 the address has; else NoCube."""
     return [sum(row) for row in addresses_of(web)]
-
-
-def _refuse_too_great(many, most):
-    if many > most:
-        raise TooGreat(many, most)

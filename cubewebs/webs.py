@@ -30,32 +30,32 @@ def web_of(many, things):
 def near_of(web, place):
     """The rising tuple of the places tied to the place; else NoPlace."""
     refuse_no_place(web, place)
-    return tuple(_near_table(web)[place])
+    return tuple(near_table(web)[place])
 
 
 def far_of(web, one, other):
     """How many ties the least way has, None where there is no way; else NoPlace."""
     refuse_no_place(web, one)
     refuse_no_place(web, other)
-    return _far_row(_near_table(web), one)[other]
+    return _far_row(near_table(web), one)[other]
 
 
 def far_table(web):
     """The list of the lists of how far places are from one another, by places."""
-    near = _near_table(web)
+    near = near_table(web)
     return [_far_row(near, place) for place in range(web[0])]
 
 
 def is_joined(web):
     """Whether there is a way between any two places."""
-    return None not in _far_row(_near_table(web), 0)
+    return None not in _far_row(near_table(web), 0)
 
 
 def least_way(web, one, other):
     """The first least way, None where there is no way; else NoPlace."""
     if far_of(web, one, other) is None:
         return None
-    near = _near_table(web)
+    near = near_table(web)
     far = _far_row(near, other)
     way = [one]
     here = one
@@ -71,7 +71,7 @@ def ways_many(web, one, other):
     """How many least ways there are, 0 where there is no way; else NoPlace."""
     if far_of(web, one, other) is None:
         return 0
-    near = _near_table(web)
+    near = near_table(web)
     far = _far_row(near, one)
     counts = [0] * web[0]
     counts[one] = 1
@@ -87,7 +87,7 @@ def between(web, one, other):
     steps = far_of(web, one, other)
     if steps is None:
         return ()
-    near = _near_table(web)
+    near = near_table(web)
     here = _far_row(near, one)
     there = _far_row(near, other)
     reached = [place for place in range(web[0]) if here[place] is not None]
@@ -123,6 +123,16 @@ def refuse_no_place(web, place):
         raise NoPlace()
 
 
+def near_table(web):
+    """By places, the places tied to each: they rise, since the ties do."""
+    many, ties = web
+    near = [[] for _ in range(many)]
+    for a, b in ties:
+        near[a].append(b)
+        near[b].append(a)
+    return near
+
+
 def _many_good(many):
     return is_whole(many) and 1 <= many <= MOST_PLACES
 
@@ -133,16 +143,6 @@ def _pair_good(many, thing):
 
 def _tie_good(many, thing):
     return all_below(thing, 2, many) and thing[0] < thing[1]
-
-
-def _near_table(web):
-    """By places, the places tied to each: they rise, since the ties do."""
-    many, ties = web
-    near = [[] for _ in range(many)]
-    for a, b in ties:
-        near[a].append(b)
-        near[b].append(a)
-    return near
 
 
 def _far_row(near, start):

@@ -160,6 +160,27 @@ def stray_webs(times):
 GREAT = NAMED + stray_webs(30)
 
 
+def stray_rows(numbers, many, width):
+    return tuple(tuple(numbers.below(2) for _ in range(width)) for _ in range(many))
+
+
+def stray_lots(times):
+    """Lots of one to eight tuples of up to twelve bits."""
+    numbers = Numbers(times)
+    found = []
+    while len(found) < times:
+        rows = stray_rows(numbers, 1 + numbers.below(8), numbers.below(13))
+        if len(set(rows)) == len(rows):
+            found.append(rows)
+    return found
+
+
+def few_lots(most):
+    """All lots of up to four tuples of at most so many bits."""
+    return [lots for width in range(most + 1) for many in range(1, 5)
+            for lots in permutations(product((0, 1), repeat=width), many)]
+
+
 def brute_far(asked):
     """How far places are, by shortening over each place in turn."""
     many, ties = asked

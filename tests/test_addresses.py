@@ -11,7 +11,8 @@ from cubewebs.lying import addresses_of, lies
 from samples import (
     CUBE, GREAT, JUNK, LADDER, NO_LOTS, NO_ORDER, NO_RISING, Case, Numbers, all_pairs, all_rising, all_webs,
     brute_addresses, brute_all_addresses, brute_are_addresses, brute_far, brute_groups, brute_joined, brute_lies,
-    brute_put, brute_turned, deep, full_web, junk_but, path_web, ring_web, star_web, web,
+    brute_put, brute_turned, deep, few_lots, full_web, junk_but, path_web, ring_web, star_web, stray_lots,
+    stray_rows, web,
 )
 
 EVERY = list(all_webs(4)) + GREAT
@@ -20,28 +21,6 @@ LYING = [asked for asked in list(all_webs(5)) + GREAT if brute_lies(asked)]
 SQUARE = ring_web(4)
 PARTS = web(6, (0, 1), (1, 2), (0, 2), (3, 4))
 ROUND = ((0, 0), (0, 1), (1, 1), (1, 0))
-
-
-def stray_rows(numbers, many, width):
-    return tuple(tuple(numbers.below(2) for _ in range(width)) for _ in range(many))
-
-
-def stray_lots(times):
-    """Lots of one to eight tuples of up to twelve bits."""
-    numbers = Numbers(times)
-    found = []
-    while len(found) < times:
-        rows = stray_rows(numbers, 1 + numbers.below(8), numbers.below(13))
-        if len(set(rows)) == len(rows):
-            found.append(rows)
-    return found
-
-
-def few_lots(most):
-    """All lots of up to four tuples of at most so many bits."""
-    return [lots for width in range(most + 1) for many in range(1, 5)
-            for lots in permutations(product((0, 1), repeat=width), many)]
-
 
 LOTS = few_lots(2) + stray_lots(150)
 

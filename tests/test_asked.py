@@ -2,8 +2,9 @@
 
 import unittest
 
-from cubewebs import addresses, drawn, halves, lying, tallied, together, webs
-from cubewebs.errors import Apart, CubeError, NoCube, NoLine, NoPlace, NoTie, NoWeb, TooGreat
+from cubewebs import addresses, drawn, halves, lying, made, middles, tallied, texts, together, webs
+from cubewebs.desk import Desk
+from cubewebs.errors import Apart, CubeError, NoCube, NoLine, NoPlace, NoText, NoTie, NoWeb, TooGreat
 from samples import CUBE, JUNK, Case, full_web, path_web, ring_web, two_sided_web, web
 
 SQUARE = ring_web(4)
@@ -32,7 +33,16 @@ def questions(asked):
         (halves.closed_good, asked, (0, last)), (halves.closed_lots, asked), (halves.hull_of, asked, (last,)),
         (halves.left_by, asked, (0,)), (halves.open_good, asked, (0, 0, 3, 4, 1)), (halves.first_open, asked),
         (drawn.renaming_good, asked, asked, tuple(reversed(range(asked[0])))), (drawn.first_renaming, asked, asked),
+        (middles.middles_of, asked, 0, last // 2, last), (middles.has_middles, asked),
+        (middles.gap_good, asked, (0, 1, 2)), (middles.first_gap, asked), (middles.majority, (0, 1), (1, 1), (1, 0)),
+        (middles.filled_bits, bits), (middles.nearest_of, asked, [0, last, last // 2]),
+        (made.pairs_web, asked, (1, ())), (made.joined_at, asked, last, (1, ()), 0),
+        (made.pairs_bits, bits, ((1, 0),)), (texts.web_shown, asked), (texts.web_read, f"web {asked[0]} 0"),
     ]
+    if asked[0] < 8:
+        listed += [(made.hung_at, asked, last), (made.doubled, asked, (last,)), (made.doubled_bits, bits, (last,))]
+    if asked[0] > 1:
+        listed.append((made.without_place, asked, 0))
     if asked[0] < 7:
         listed += [(drawn.least_form, asked), (drawn.own_many, asked)]
     if asked[1]:
@@ -79,6 +89,11 @@ class AskedTest(Case):
                 self.refused(NoPlace, halves.hull_of, asked, [thing])
                 self.refused(NoTie, drawn.drawn_by, SQUARE, [thing])
                 self.refused(TooGreat, drawn.least_form, CUBE)
+                self.refused(NoPlace, middles.nearest_of, asked, [thing, thing])
+                self.refused(NoCube, middles.majority, (0, 1), [thing], (1, 1))
+                self.refused(NoPlace, made.joined_at, asked, 0, asked, thing)
+                self.refused(NoLine, made.doubled_bits, ((0, 1), (1, 1)), [thing])
+                self.refused(NoText, texts.web_read, thing)
         again = [repr(self.ask(*question)) for asked in ASKED for question in questions(asked)]
         self.assertEqual(first, again)
 
@@ -102,33 +117,41 @@ class AskedTest(Case):
 
     def test_what_is_told_may_be_handed_in_again(self):
         for asked in ASKED:
-            made = self.ask(webs.web_of, asked[0], list(asked[1]))
-            self.told(True, webs.web_good, made)
-            way = self.ask(webs.least_way, made, 0, asked[0] - 1)
-            self.told(True, webs.way_good, made, 0, asked[0] - 1, way)
-            self.told(True, webs.web_good, self.ask(webs.renamed, made, tuple(reversed(range(asked[0])))))
-            found = self.ask(together.first_break, made)
-            self.told(found is not None, together.break_good, made, found)
-            ring = self.ask(together.odd_ring, made)
-            self.told(ring is not None, together.odd_good, made, ring)
-            self.told(True, lying.paper_good, made, self.ask(lying.paper_of, made))
-            self.told(True, halves.closed_good, made, self.ask(halves.hull_of, made, (0, asked[0] - 1)[:asked[0]]))
-            found = self.ask(halves.first_open, made)
-            self.told(found is not None, halves.open_good, made, found)
-            names = self.ask(drawn.first_renaming, made, made)
-            self.told(True, drawn.renaming_good, made, made, names)
+            again = self.ask(webs.web_of, asked[0], list(asked[1]))
+            self.told(True, webs.web_good, again)
+            way = self.ask(webs.least_way, again, 0, asked[0] - 1)
+            self.told(True, webs.way_good, again, 0, asked[0] - 1, way)
+            self.told(True, webs.web_good, self.ask(webs.renamed, again, tuple(reversed(range(asked[0])))))
+            found = self.ask(together.first_break, again)
+            self.told(found is not None, together.break_good, again, found)
+            ring = self.ask(together.odd_ring, again)
+            self.told(ring is not None, together.odd_good, again, ring)
+            self.told(True, lying.paper_good, again, self.ask(lying.paper_of, again))
+            self.told(True, halves.closed_good, again, self.ask(halves.hull_of, again, (0, asked[0] - 1)[:asked[0]]))
+            found = self.ask(halves.first_open, again)
+            self.told(found is not None, halves.open_good, again, found)
+            names = self.ask(drawn.first_renaming, again, again)
+            self.told(True, drawn.renaming_good, again, again, names)
+            self.told(again, texts.web_read, self.ask(texts.web_shown, again))
+            found = self.ask(middles.first_gap, again)
+            self.told(found is not None, middles.gap_good, again, found)
             if lying.lies(asked):
-                self.cube_told_again(made)
+                self.cube_told_again(again)
 
-    def cube_told_again(self, made):
-        rows = self.ask(tallied.first_addresses, made, 9)
-        self.told(True, addresses.addresses_good, made, rows)
-        self.told(made, addresses.web_by, self.ask(addresses.lean_bits, rows))
-        here, there = self.ask(tallied.from_place, made, 0), self.ask(tallied.from_place, made, made[0] - 1)
+    def cube_told_again(self, again):
+        rows = self.ask(tallied.first_addresses, again, 9)
+        self.told(True, addresses.addresses_good, again, rows)
+        self.told(again, addresses.web_by, self.ask(addresses.lean_bits, rows))
+        here, there = self.ask(tallied.from_place, again, 0), self.ask(tallied.from_place, again, again[0] - 1)
         order, turned = self.ask(addresses.led_bits, here, there)
         self.told(there, addresses.turned_bits, self.ask(addresses.put_bits, here, order), turned)
-        for number in range(self.ask(tallied.fewest_bits, made)):
-            self.told(True, lying.lies, self.ask(drawn.drawn_web, made, number))
+        if again[0] < 5:
+            pairs = self.ask(made.pairs_web, again, (2, ((0, 1),)))
+            self.told(True, addresses.addresses_good, pairs, self.ask(made.pairs_bits, here, ((0,), (1,))))
+        if again[0] < 8:
+            self.told(again, made.without_place, self.ask(made.hung_at, again, 0), again[0])
+        for number in range(self.ask(tallied.fewest_bits, again)):
+            self.told(True, lying.lies, self.ask(drawn.drawn_web, again, number))
 
     def test_lists_handed_in_as_whatever_stay_as_they_are(self):
         inner = [0, 1]
@@ -140,7 +163,7 @@ class AskedTest(Case):
                              (addresses.bits_good, ((2, ()), inner)), (addresses.bits_good, ((2, ()), (inner, inner))),
                              (addresses.addresses_good, (SQUARE, [inner])), (halves.closed_good, (SQUARE, inner)),
                              (halves.open_good, (SQUARE, [0, 0, *inner, 2])),
-                             (drawn.renaming_good, (SQUARE, SQUARE, inner))]:
+                             (drawn.renaming_good, (SQUARE, SQUARE, inner)), (middles.gap_good, (SQUARE, [*inner, 2]))]:
             self.told(False, call, *handed)
         self.refused(NoWeb, webs.web_of, 3, things)
         self.refused(NoPlace, webs.renamed, (2, ()), inner)
@@ -149,6 +172,11 @@ class AskedTest(Case):
         self.refused(NoLine, addresses.turned_bits, ((0, 1),), inner)
         self.refused(NoLine, addresses.put_bits, ((0, 1),), inner)
         self.refused(NoCube, addresses.web_by, (inner,))
+        self.refused(NoCube, middles.majority, inner, (0, 1), (0, 1))
+        self.refused(NoPlace, middles.nearest_of, SQUARE, [inner])
+        self.refused(NoPlace, made.doubled, SQUARE, inner)
+        self.refused(NoText, texts.web_read, inner)
+        self.refused(NoLine, Desk().say, inner)
         self.assertEqual((inner, things), ([0, 1], [(0, 1), [0, 1]]))
 
     def test_answers_are_of_their_kinds(self):
@@ -163,9 +191,12 @@ class AskedTest(Case):
             "first_addresses": tuple, "all_addresses": list, "from_place": tuple, "weight_table": list,
             "drawn_web": tuple, "drawn_names": tuple, "drawn_by": tuple, "renaming_good": bool,
             "first_renaming": tuple, "least_form": tuple, "own_many": int,
+            "middles_of": tuple, "has_middles": bool, "gap_good": bool, "majority": tuple, "filled_bits": tuple,
+            "nearest_of": tuple, "pairs_web": tuple, "joined_at": tuple, "hung_at": tuple, "doubled": tuple,
+            "pairs_bits": tuple, "doubled_bits": tuple, "without_place": tuple, "web_shown": str, "web_read": tuple,
         }
         nones = {"first_break": tuple, "odd_ring": tuple, "sides_of": tuple, "first_stretch": tuple,
-                 "led_bits": tuple, "left_by": tuple, "first_open": tuple}
+                 "led_bits": tuple, "left_by": tuple, "first_open": tuple, "first_gap": tuple}
         for asked in ASKED:
             for call, *handed in questions(asked):
                 got = self.ask(call, *handed)
@@ -179,7 +210,9 @@ class AskedTest(Case):
                              (together.with_of, (SQUARE, 4)), (lying.addresses_of, (LOOSE,)),
                              (addresses.web_by, ((),)), (addresses.put_bits, (((0,),), ())),
                              (halves.left_by, (SQUARE, (4,))), (tallied.all_addresses, (path_web(8),)),
-                             (drawn.drawn_web, (SQUARE, 2)), (drawn.own_many, (path_web(7),))]:
+                             (drawn.drawn_web, (SQUARE, 2)), (drawn.own_many, (path_web(7),)),
+                             (middles.first_gap, (LOOSE,)), (made.pairs_web, (CUBE, CUBE)), (texts.web_read, ("",)),
+                             (Desk().say, ("back",)), (Desk().say, ("fresh 9",)), (Desk().say, ("drop 0",))]:
             with self.assertRaises(CubeError):
                 call(*handed)
             with self.assertRaises(ValueError):
@@ -207,6 +240,15 @@ class AskedTest(Case):
         self.refused(NoCube, tallied.from_place, LOOSE, 6)
         self.refused(NoCube, tallied.first_addresses, LOOSE, 13)
         self.refused(NoCube, drawn.drawn_by, LOOSE, None)
+        self.refused(Apart, middles.middles_of, LOOSE, None, 6, 6)
+        self.refused(Apart, middles.nearest_of, LOOSE, [])
+        self.refused(NoCube, middles.filled_bits, ((0,) * 6, (0,) * 6))
+        # What there would be too many of is refused behind all that is handed in for what it isn't.
+        self.refused(NoPlace, made.joined_at, CUBE, 0, CUBE, 8)
+        self.refused(NoPlace, made.doubled, CUBE, (8,))
+        self.refused(NoLine, made.doubled_bits, ((0,) * 12,), (1,))
+        self.refused(NoCube, made.pairs_bits, ((0,) * 12,), ((0,) * 13,))
+        self.refused(NoLine, Desk().say, "fresh 9 9")
 
 
 if __name__ == "__main__":

@@ -34,6 +34,13 @@ ONE_RING = (8, tuple(tie for tie in full_web(8)[1] if tie not in ring_web(8)[1])
 TWO_RINGS = (8, tuple(tie for tie in full_web(8)[1]
                       if tie not in SQUARE[1] and tie not in ((4, 5), (5, 6), (6, 7), (4, 7))))
 
+# Webs of six places, and how many renamings of each to itself there are.
+OWN = {
+    SIX: 12, two_sided_web(3, 3): 72, web(6, (0, 1), (2, 3), (4, 5)): 48, plus(SIX, (0, 3), (1, 5), (2, 4)): 12,
+    web(6, (0, 1), (0, 2), (1, 2), (3, 4), (3, 5), (4, 5)): 72, web(6, (0, 1), (1, 2), (3, 4), (4, 5)): 8,
+    web(6, *ring_web(5)[1]): 10, web(6, *SQUARE[1], (4, 5)): 16, plus(SIX, (0, 3)): 4, path_web(6): 2,
+}
+
 
 def brute_drawn(asked, some):
     """The new names and the web, by painting: both ends of a tie of these groups get one colour."""
@@ -314,13 +321,28 @@ class FormTest(Case):
 
     def test_over_many_webs(self):
         numbers = Numbers(10)
-        some = [asked for asked in GREAT if asked[0] == 6] + [(6, tuple(tie for tie in full_web(6)[1]
-                                                                        if numbers.below(2))) for _ in range(5)]
-        for asked in FEW + FIVES[::29] + some[:20]:
-            due = min(plain_renamed(asked, names) for names in permutations(range(asked[0])))
+        thick = [(6, tuple(tie for tie in full_web(6)[1] if numbers.below(6) < keep)) for keep in range(1, 6)]
+        some = [asked for asked in GREAT if asked[0] == 6][:20] + thick + list(OWN)
+        for asked in FEW + FIVES[::3] + some:
+            every = [plain_renamed(asked, names) for names in permutations(range(asked[0]))]
+            due = min(every)
             self.told(due, least_form, asked)
-            self.told(len(list(brute_renamings(asked, asked))), own_many, asked)
+            self.told(every.count(asked), own_many, asked)
             self.assertIsNotNone(self.ask(first_renaming, asked, due))
+
+    def test_webs_in_which_many_places_are_alike(self):
+        for asked, many in OWN.items():
+            self.told(many, own_many, asked)
+            self.told(many, own_many, (6, tuple(tie for tie in full_web(6)[1] if tie not in asked[1])))
+
+    def test_in_good_time_of_many_webs_of_six_places(self):
+        def asked_often(webs):
+            for asked in webs:
+                for _ in range(600):
+                    self.assertEqual(own_many(least_form(asked)), own_many(asked))
+
+        # Trying all 720 orders of six places takes about ten milliseconds for each answer.
+        self.soon(asked_often, [full_web(6), (6, ()), SIX, two_sided_web(3, 3), star_web(6), PARTS])
 
     def test_six_places_and_seven(self):
         for call in [least_form, own_many]:

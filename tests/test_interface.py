@@ -72,6 +72,28 @@ LISTED = {
         "open_good": ["web", "thing"],
         "first_open": ["web"],
     },
+    "middles": {
+        "middles_of": ["web", "one", "other", "third"],
+        "has_middles": ["web"],
+        "gap_good": ["web", "thing"],
+        "first_gap": ["web"],
+        "majority": ["one", "other", "third"],
+        "filled_bits": ["lots"],
+        "nearest_of": ["web", "places"],
+    },
+    "made": {
+        "pairs_web": ["one", "other"],
+        "joined_at": ["one", "place", "other", "there"],
+        "hung_at": ["web", "place"],
+        "doubled": ["web", "lot"],
+        "pairs_bits": ["one", "other"],
+        "doubled_bits": ["lots", "numbers"],
+        "without_place": ["web", "place"],
+    },
+    "texts": {
+        "web_shown": ["web"],
+        "web_read": ["text"],
+    },
 }
 
 
@@ -86,6 +108,14 @@ class InterfaceTest(unittest.TestCase):
                     self.assertEqual(function.__module__, f"cubewebs.{file}")
                     self.assertEqual(function.__name__, name)
                     self.assertEqual(list(inspect.signature(function).parameters), arguments)
+
+    def test_the_desk_stands_in_its_file_with_its_method(self):
+        module = importlib.import_module("cubewebs.desk")
+        self.assertTrue(inspect.isclass(module.Desk))
+        self.assertEqual((module.Desk.__module__, module.Desk.__name__), ("cubewebs.desk", "Desk"))
+        self.assertEqual(list(inspect.signature(module.Desk).parameters), [])
+        self.assertIn("say", vars(module.Desk))
+        self.assertEqual(list(inspect.signature(module.Desk.say).parameters), ["self", "row"])
 
 
 if __name__ == "__main__":

@@ -98,7 +98,8 @@ class WebOfTest(Case):
             self.told(asked, web_of, many, [(b, a) for a, b in reversed(ties)] + list(ties))
 
     def test_many_that_is_none(self):
-        for many in [0, -1, 9, 10, 10 ** 39, -(10 ** 39), True, False, None, "1", "", "8", (), (1,), [], [1], {}, {1: 1}]:
+        for many in [0, -1, 9, 10, 10 ** 39, -(10 ** 39), True, False, None, "1", "", "8", (), (1,), [], [1], {},
+                     {1: 1}]:
             self.assertEqual(self.refused(NoWeb, web_of, many, []).number, -1)
 
     def test_many_goes_ahead_of_the_things(self):
